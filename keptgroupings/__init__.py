@@ -1,0 +1,1 @@
+"""Which answers to keep ready: groupings."""
