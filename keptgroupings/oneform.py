@@ -19,16 +19,18 @@ def columns_line(names):
 
 def row_line(row):
     numbers = ", ".join([str(number) for number in row.numbers])
-    return bytes_of(f"row {numbers} : {row.amount} ;\n")
+    amount = row.amount
+    return bytes_of(f"row {numbers} : {amount} ;\n")
 
 
 def question_line(question, names):
     line = bytes_of("ask ")
+    times = question.times
     asked = [names[column] for column in columns_of(question.grouping, len(names))]
     if asked:
         line.extend(listed(asked) + bytes_of(" "))
-    if question.times != 1:
-        line.extend(bytes_of(f"times {question.times} "))
+    if times != 1:
+        line.extend(bytes_of(f"times {times} "))
     return line + bytes_of(";\n")
 
 

@@ -3,64 +3,7 @@
 import unittest
 from itertools import product
 
-from tests.helpers import asked, table_text
-
-GREAT = 10 ** 18
-
-
-def scattered(width, count, spread, seed):
-    """Rows that look without order but are the same each time."""
-    rows = []
-    state = seed
-    for number in range(count):
-        values = []
-        for place in range(width):
-            state = (state * 1103515245 + 12345) % 2147483648
-            values.append(state // 65536 % spread)
-        state = (state * 1103515245 + 12345) % 2147483648
-        rows.append((tuple(values), state // 65536 % 2001 - 1000))
-    return rows
-
-
-TABLES = [
-    (1, []), (4, []),
-    (1, [((7,), -3)]),
-    (1, [((9,), 1), ((0,), 2), ((9,), 3), ((5,), -1000), ((0,), -2)]),
-    (2, [((0, 0), 5), ((0, 1), 2), ((1, 0), 4), ((1, 0), -1), ((0, 0), 1)]),
-    (2, [((1, 0), 1), ((0, 9), 2)]),
-    (3, [((1, 2, 3), 4)] * 16),
-    (3, [((9, 0, 9), 1000), ((0, 9, 0), -1000), ((9, 9, 9), 0), ((0, 0, 0), 0), ((9, 0, 0), -1)]),
-    (4, [((n // 8 % 2, n // 4 % 2, n // 2 % 2, n % 2), n - 8) for n in range(15, -1, -1)]),
-    (1, scattered(1, 16, 4, 1)), (1, scattered(1, 16, 10, 2)),
-    (2, scattered(2, 16, 2, 3)), (2, scattered(2, 11, 10, 4)),
-    (3, scattered(3, 16, 2, 5)), (3, scattered(3, 13, 3, 6)),
-    (4, scattered(4, 16, 2, 7)), (4, scattered(4, 16, 3, 8)), (4, scattered(4, 16, 10, 9)),
-]
-
-
-def plain_lines(width, rows, grouping):
-    """The lines, found by looking through all numbers that there could be, in order."""
-    columns = [place for place in range(width) if grouping // 2 ** place % 2]
-    lines = []
-    present = {tuple(values[place] for place in columns) for values, amount in rows}
-    for numbers in product(range(10), repeat=len(columns)):
-        if numbers in present:
-            amounts = [amount for values, amount in rows if tuple(values[place] for place in columns) == numbers]
-            lines.append(list(numbers) + [sum(amounts), len(amounts)])
-    return lines
-
-
-def as_answer(lines):
-    return [len(lines)] + [number for line in lines for number in line]
-
-
-def asked_of(width, rows, *calls):
-    """The answers to the calls on this table, asked sixty at the most together."""
-    told = []
-    for start in range(0, len(calls), 59):
-        part = asked(("load", table_text(width, rows)), *calls[start:start + 59])
-        told.extend(part[1:])
-    return told
+from tests.helpers import GREAT, TABLES, as_answer, asked_of, plain_lines
 
 
 class Group(unittest.TestCase):

@@ -57,6 +57,19 @@ def names_bound(tree):
     return found
 
 
+def names_at_top(tree):
+    """What a file's top binds, each as often as it does."""
+    found = []
+    for node in tree.body:
+        if isinstance(node, (ast.FunctionDef, ast.ClassDef)):
+            found.append(node.name)
+        elif isinstance(node, ast.ImportFrom):
+            found.extend(alias.name for alias in node.names)
+        elif isinstance(node, ast.Assign):
+            found.extend(target.id for target in node.targets)
+    return found
+
+
 def own_methods():
     return {node.name for path, tree in TREES for owner in ast.walk(tree) if isinstance(owner, ast.ClassDef)
             for node in owner.body if isinstance(node, ast.FunctionDef)}
@@ -106,6 +119,39 @@ class Language(unittest.TestCase):
                     self.assertNotIsInstance(node.value, (float, bytes, complex))
                 if isinstance(node, ast.BinOp):
                     self.assertNotIsInstance(node.op, (ast.Div, ast.Pow, ast.MatMult))
+
+    def test_texts_are_filled_with_plain_names(self):
+        for path, tree in TREES:
+            for node in ast.walk(tree):
+                if isinstance(node, ast.FormattedValue):
+                    self.assertIsInstance(node.value, ast.Name, path.name)
+                    self.assertIn(node.conversion, (-1, ord("r")), path.name)
+                    self.assertIsNone(node.format_spec, path.name)
+
+    def test_comprehensions_are_short(self):
+        for path, tree in TREES:
+            for node in ast.walk(tree):
+                if isinstance(node, ast.ListComp):
+                    self.assertEqual(len(node.generators), 1, path.name)
+                    self.assertLessEqual(len(node.generators[0].ifs), 1, path.name)
+
+    def test_a_name_is_bound_once_at_a_files_top(self):
+        for path, tree in TREES:
+            bound = names_at_top(tree)
+            self.assertEqual(len(bound), len(set(bound)), path.name)
+
+    def test_no_parameter_or_local_is_called_like_a_name_of_its_files_top(self):
+        for path, tree in TREES:
+            at_top = set(names_at_top(tree))
+            for owner in tree.body:
+                if isinstance(owner, (ast.FunctionDef, ast.ClassDef)):
+                    within = set(names_bound(owner)) - {owner.name}
+                    self.assertEqual(within & at_top, set(), f"{path.name}, {owner.name}")
+
+    def test_no_name_is_a_method_and_a_value(self):
+        stored = {node.attr for path, tree in TREES for node in ast.walk(tree)
+                  if isinstance(node, ast.Attribute) and isinstance(node.ctx, ast.Store)}
+        self.assertEqual(stored & own_methods(), set())
 
     def test_names(self):
         for path, tree in TREES:

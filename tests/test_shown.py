@@ -65,7 +65,8 @@ class ReadAgain(unittest.TestCase):
     def test_what_is_shown_is_read_as_the_same_table(self):
         for text in self.TEXTS:
             with self.subTest(text=text[:40]):
-                looks = [("shown",), ("sizes",), ("group", 0), ("group", 1)]
+                looks = [("shown",), ("sizes",), ("group", 0), ("group", 1), ("total",), ("gain", 1), ("cost", 0),
+                         ("keep", [1, 0]), ("total",), ("cost", 0), ("answer", 0), ("answer", 7)]
                 first = asked(("load", text), *looks)
                 again = asked(("load", first[1][1:]), *looks)
                 self.assertLessEqual(first[1][0], 4096)
